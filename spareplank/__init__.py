@@ -1,0 +1,1 @@
+"""Spareplank: one great row of blocks on planks that may be lost."""
