@@ -58,8 +58,14 @@ class Field:
     def power(self, one, many):
         """The product of as many times the symbol; 1 for no times."""
         product = 1
-        for step in range(many):
-            product = self.times(product, one)
+        # The symbol, squared again and again, stands for the binary digits of many: many may be large.
+        square = one
+        digits = many
+        while digits > 0:
+            if digits % 2 == 1:
+                product = self.times(product, square)
+            square = self.times(square, square)
+            digits = digits // 2
         return product
 
     def table(self, one):

@@ -51,3 +51,83 @@ def spread(limit, many):
         number = (number * 6364136223846793005 + 1442695040888963407) % 2 ** 192
         found.append((number >> 40) % limit)
     return found
+
+
+def line_sum(rule, line, symbols):
+    """The sum of the products, place by place."""
+    total = 0
+    for one, other in zip(line, symbols):
+        total ^= product(rule, one, other)
+    return total
+
+
+def rank_of(rule, lines, places):
+    """The rank of one or two lines at these places, read off their products crosswise."""
+    cut = [[line[place] for place in places] for line in lines]
+    if len(cut) == 2:
+        for one in range(len(places)):
+            for other in range(one):
+                if product(rule, cut[0][one], cut[1][other]) != product(rule, cut[0][other], cut[1][one]):
+                    return 2
+    return 1 if any(any(line) for line in cut) else 0
+
+
+def fixed(rule, lines, known, role):
+    """Whether the known roles fix a role by one or two equations: else it may move while they stay."""
+    if known[role]:
+        return True
+    unknown = [place for place in range(len(known)) if not known[place]]
+    others = [place for place in unknown if place != role]
+    return rank_of(rule, lines, unknown) > rank_of(rule, lines, others)
+
+
+def block_times(rule, many, factor, block):
+    """The block with each symbol times the factor."""
+    base = 2 ** (len(bin(rule)) - 3)
+    return block_of([product(rule, factor, symbol) for symbol in digits_of(block, base, many)], base)
+
+
+def weighted(rule, many, weights, some):
+    """The sum of the blocks, each times its weight."""
+    total = 0
+    for weight, block in zip(weights, some):
+        total ^= block_times(rule, many, weight, block)
+    return total
+
+
+def make_of(rule, many, weights, some):
+    """The make of these data blocks, by the words of point 23."""
+    return list(some) + [weighted(rule, many, line, some) for line in weights]
+
+
+def is_right(rule, many, weights, row):
+    """Whether all sums of a list of blocks are right."""
+    data = len(weights[0])
+    return list(row) == make_of(rule, many, weights, row[:data])
+
+
+def lines_of(weights):
+    """The equations of these weights, by the words of point 21."""
+    return [list(line) + [int(other == total) for other in range(len(weights))] for total, line in enumerate(weights)]
+
+
+# Weights of many forms: plain ones, sums that touch not all roles, weights alike, one data role alone.
+WEIGHTS = (
+    ((1, 1, 1),),
+    ((1,),),
+    ((7,),),
+    ((1, 2, 3, 4, 5, 6, 7),),
+    ((9, 1, 15, 4),),
+    ((1, 1, 1, 1), (1, 2, 3, 4)),
+    ((1, 1, 1, 1, 1, 1), (1, 2, 3, 4, 5, 6)),
+    ((1,), (1,)),
+    ((3,), (8,)),
+    ((1, 1), (1, 1)),
+    ((1, 0), (0, 1)),
+    ((1, 1, 0, 0), (0, 0, 1, 1)),
+    ((1, 0, 0), (0, 5, 6)),
+    ((1, 1, 1), (0, 0, 4)),
+    ((0, 1, 1, 1, 2), (1, 1, 1, 1, 2)),
+    ((2, 4, 6), (1, 2, 3)),
+    ((5, 0, 1, 0, 7, 9), (9, 7, 0, 1, 3, 0)),
+)

@@ -163,7 +163,7 @@ class BacksAndPowersTest(unittest.TestCase):
                 due = [1]
                 while len(due) <= 1000:
                     due.append(product(rule, due[-1], symbol))
-                for many in (0, 1, 2, 3, field.last - 1, field.last, field.last + 1, 999, 1000):
+                for many in range(1001):
                     with self.subTest(rule=rule, symbol=symbol, many=many):
                         self.assertEqual(field.power(symbol, many), due[many])
 
