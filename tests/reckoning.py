@@ -1,5 +1,9 @@
 """What the tests reckon by themselves, by the words of the document and not by the program."""
 
+from spareplank.blocks import Blocks
+from spareplank.codes import Code
+from spareplank.field import Field
+
 # A good rule of each width, 4 to 8, and a second one for the least and the greatest.
 GOOD_RULES = (19, 25, 37, 67, 131, 285, 351)
 
@@ -131,3 +135,29 @@ WEIGHTS = (
     ((2, 4, 6), (1, 2, 3)),
     ((5, 0, 1, 0, 7, 9), (9, 7, 0, 1, 3, 0)),
 )
+
+
+def code_of(weights, rule=19, many=2):
+    """A code of the program's, by copies of these weights."""
+    return Code(Blocks(Field(rule), many), [list(line) for line in weights])
+
+
+class Stripe:
+    """A stripe that counts how it is asked."""
+
+    def __init__(self, blocks):
+        self.blocks = list(blocks)
+        self.calls = []
+
+    def ask(self, role):
+        self.calls.append(role)
+        return self.blocks[role]
+
+
+def drawn_stripe(source, weights, unread=0.2, away=0.2):
+    """A stripe that is part of a make, costs for it, and the make."""
+    data = [source.randrange(256) for _ in weights[0]]
+    make = make_of(19, 2, weights, data)
+    costs = [None if source.random() < away else source.choice((1, 1, 1, 2, 3, 5, 9)) for _ in make]
+    stripe = Stripe([None if source.random() < unread else block for block in make])
+    return stripe, costs, make

@@ -10,14 +10,10 @@ from spareplank.codes import Code
 from spareplank.errors import NoCode, NoPlace
 from spareplank.field import Field
 from spareplank.lines import plain_weights
-from tests.reckoning import (GOOD_RULES, WEIGHTS, fixed, is_right, line_sum, lines_of, make_of, product, spread,
-                             weighted)
+from tests.reckoning import (GOOD_RULES, WEIGHTS, code_of, fixed, is_right, line_sum, lines_of, make_of, product,
+                             spread, weighted)
 
 FAR = [-(10 ** 29), -9, -1]
-
-
-def code_of(weights, rule=19, many=2):
-    return Code(Blocks(Field(rule), many), [list(line) for line in weights])
 
 
 def sights(roles):
