@@ -5,6 +5,7 @@ import unittest
 
 from spareplank.errors import NoPlace, NoPower, NoShape, PlankError, WrongPlank
 from spareplank.racks import Rack
+from tests.reckoning import state_of
 
 FAR = [-(10 ** 29), -9, -1]
 
@@ -26,10 +27,7 @@ def of_all_kinds():
 
 def state(rack):
     """All that a rack tells without power."""
-    planks = [(rack.kind_of(plank), rack.cost_of(plank), rack.mark_of(plank),
-               [(rack.peek(plank, stripe), rack.there(plank, stripe)) for stripe in range(rack.stripes)])
-              for plank in range(rack.planks)]
-    return planks, rack.has_power(), rack.intents(), rack.events()
+    return state_of(rack) + (rack.events(),)
 
 
 class RackTest(unittest.TestCase):

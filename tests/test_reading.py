@@ -6,32 +6,7 @@ import unittest
 
 from spareplank.asking import Asking
 from spareplank.reading import read_role
-from tests.reckoning import WEIGHTS, Stripe, code_of, drawn_stripe, fixed, lines_of, make_of
-
-
-def due_asking(lines, blocks, costs, role):
-    """The roles that point 39 asks, in their order."""
-    asked = []
-    while True:
-        known = [other in asked and blocks[other] is not None for other in range(len(blocks))]
-        if fixed(19, lines, known, role):
-            return asked
-        order = sorted([(costs[other], other) for other in range(len(blocks))
-                        if costs[other] is not None and other not in asked])
-        for many in range(1, len(order) + 1):
-            way = order[:many]
-            more = [known[other] or other in [one for _, one in way] for other in range(len(blocks))]
-            if fixed(19, lines, more, role):
-                break
-        else:
-            return asked
-        if (costs[role], role) in order and costs[role] <= sum(cost for cost, _ in way):
-            asked.append(role)
-            continue
-        for _, other in way:
-            asked.append(other)
-            if blocks[other] is None:
-                break
+from tests.reckoning import WEIGHTS, Stripe, code_of, drawn_stripe, fixed, lines_of, make_of, reading_due
 
 
 class ReadingTest(unittest.TestCase):
@@ -44,7 +19,7 @@ class ReadingTest(unittest.TestCase):
         told = read_role(asking, role)
         stands = [cost is not None and block is not None for cost, block in zip(costs, stripe.blocks)]
         self.assertEqual(told, make[role] if fixed(19, lines, stands, role) else None)
-        self.assertEqual(asking.asked, due_asking(lines, stripe.blocks, costs, role))
+        self.assertEqual(asking.asked, reading_due(weights, stripe.blocks, costs, role))
         self.assertEqual(stripe.calls, asking.asked)
         return asking
 
