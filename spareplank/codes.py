@@ -74,7 +74,6 @@ class Code:
 
     def told(self, known, role):
         """What the known roles tell of another one, as told_of tells it."""
-        self.check_role(role)
         return told_of(self.blocks.field, self.lines, known, role)
 
     def fixes(self, known, role):

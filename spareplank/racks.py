@@ -29,12 +29,10 @@ class Rack:
         self.slots = slots
         self.shelf = [Plank([0] * stripes) for plank in range(planks)]
         self.slate = [None] * slots
-        # How many single writes are left, None for power without end.
+        # None stands for power without end, so that no number of writes uses it up.
         self.left = None
         self.gone = False
         self.done = []
-
-    # Fate: what befalls the planks and the power.
 
     def lose(self, plank):
         """From now on the plank is lost."""
@@ -73,8 +71,6 @@ class Rack:
         """From now on there is power for so many single writes, or without end."""
         self.left = left
         self.gone = False
-
-    # Looks that need no power and leave no event.
 
     def peek(self, plank, stripe):
         """What the plank holds there."""
@@ -118,8 +114,6 @@ class Rack:
     def events(self):
         """What was done, the first one first."""
         return list(self.done)
-
-    # What needs power.
 
     def look(self, plank, stripe):
         """What the plank holds there, None if it is not there for the stripe."""
@@ -179,8 +173,6 @@ class Rack:
         if self.left is not None:
             self.left -= 1
         self.done.append(event)
-
-    # What the rack does not have.
 
     def check_slot(self, slot):
         """Refuses a slot that is not there."""

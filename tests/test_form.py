@@ -220,6 +220,58 @@ class NodesTest(unittest.TestCase):
         for where, node in self.each(ast.Attribute):
             self.assertIn(node.attr, own + values + METHODS, where)
 
+    def test_locals_are_called_like_no_class_or_import(self):
+        for name, tree in trees().items():
+            taken = [node.name for node in tree.body if isinstance(node, ast.ClassDef)]
+            for node in tree.body:
+                if isinstance(node, ast.ImportFrom):
+                    taken.extend(one.name for one in node.names)
+            for node in ast.walk(tree):
+                word = node.arg if isinstance(node, ast.arg) else getattr(node, "id", None)
+                if isinstance(node, ast.arg) or isinstance(getattr(node, "ctx", None), ast.Store):
+                    self.assertNotIn(word, taken, (name, node.lineno))
+
+    def test_keywords(self):
+        allowed = {"sorted": ("key", "reverse"), "min": ("key", "default"), "max": ("key", "default"),
+                   "sum": ("start",), "enumerate": ("start",), "zip": ("strict",)}
+        for where, node in self.each(ast.Call):
+            if node.keywords:
+                self.assertTrue(isinstance(node.func, ast.Name), where)
+                for word in node.keywords:
+                    self.assertIn(word.arg, allowed.get(node.func.id, ()), where)
+
+    def test_walked_at_once(self):
+        takers = ("list", "tuple", "dict", "sorted", "sum", "any", "all", "enumerate", "zip", "min", "max")
+        for name, tree in trees().items():
+            walked = []
+            for node in ast.walk(tree):
+                if isinstance(node, (ast.For, ast.comprehension)):
+                    walked.append(node.iter)
+                elif isinstance(node, ast.Call) and getattr(node.func, "id", None) in takers:
+                    walked.extend(node.args)
+            for node in ast.walk(tree):
+                if isinstance(node, ast.Call):
+                    word = getattr(node.func, "id", getattr(node.func, "attr", None))
+                    if word in ("zip", "enumerate", "reversed", "range", "items", "keys", "values"):
+                        self.assertIn(node, walked, (name, node.lineno))
+
+    def test_classes_are_called_or_stand_by_isinstance(self):
+        classes = [node.name for _, node in self.each(ast.ClassDef)]
+        for name, tree in trees().items():
+            fine = []
+            for node in ast.walk(tree):
+                if isinstance(node, ast.Call):
+                    fine.append(node.func)
+                    if getattr(node.func, "id", None) == "isinstance":
+                        fine.extend(ast.walk(node.args[1]))
+                elif isinstance(node, ast.ClassDef):
+                    fine.extend(node.bases)
+                elif isinstance(node, ast.Attribute) and node.attr == "__init__":
+                    fine.append(node.value)
+            for node in ast.walk(tree):
+                if isinstance(node, ast.Name) and node.id in classes:
+                    self.assertIn(node, fine, (name, node.lineno))
+
     def test_errors_taken_by_name(self):
         for where, node in self.each(ast.ExceptHandler):
             self.assertIsNotNone(node.type, where)
